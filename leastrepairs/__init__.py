@@ -1,0 +1,1 @@
+"""Least repairs of texts that a grammar does not read."""
