@@ -1,8 +1,9 @@
 """The calls on one object that holds a grammar, costs and a text."""
 
 from leastrepairs.cells import find_cells
+from leastrepairs.distances import distance_between
 from leastrepairs.grammar import HIGHEST_BYTE, START, Grammar, NoGrammarRow, read_grammar
-from leastrepairs.pieces import Costs
+from leastrepairs.pieces import KEPT, Costs
 from leastrepairs.telling import TooLong, repaired, told_repair
 
 LOAD = 0
@@ -10,6 +11,11 @@ COSTS = 1
 TEXT = 2
 LEAST = 3
 REPAIR = 4
+CHANGES = 5
+COST = 6
+WAY = 7
+DISTANCE = 8
+APPLY = 9
 
 DONE = 0
 NONE_THERE = 1
@@ -17,12 +23,14 @@ NONE_THERE = 1
 WRONG_NUMBER = -1
 WRONG_ROW = -2
 TOO_MANY = -3
+NO_NONTERMINAL = -4
 OUT_OF_BOUNDS = -5
 REPAIR_TOO_LONG = -6
 
 LOWEST_COST = 1
 HIGHEST_COST = 9
 MOST_LETTERS = 12
+MOST_OTHER_LETTERS = 64
 
 
 class NoSuchCall(Exception):
@@ -79,8 +87,12 @@ def answer_call(held, reader):
         return answer_text(held, reader.take_row())
     if call == LEAST:
         return answer_least(held)
-    if call == REPAIR:
-        return answer_repair(held)
+    if call in (REPAIR, CHANGES, APPLY):
+        return answer_by_repair(held, call)
+    if call in (COST, WAY):
+        return answer_by_cell(held, call, reader.take_numbers(3))
+    if call == DISTANCE:
+        return answer_distance(held, reader.take_row())
     raise NoSuchCall(f"there is no call with the number {call}")
 
 
@@ -105,13 +117,24 @@ def answer_costs(held, three):
 
 
 def answer_text(held, row):
-    if any([number < 0 or number > HIGHEST_BYTE for number in row]):
-        return [WRONG_NUMBER]
-    if len(row) > MOST_LETTERS:
-        return [TOO_MANY]
-    held.letters = row
-    held.cells = None
+    refusal = refusal_of_bytes(row, MOST_LETTERS)
+    if refusal is not None:
+        return [refusal]
+    hold_text(held, row)
     return [DONE]
+
+
+def refusal_of_bytes(row, most):
+    if any([number < 0 or number > HIGHEST_BYTE for number in row]):
+        return WRONG_NUMBER
+    if len(row) > most:
+        return TOO_MANY
+    return None
+
+
+def hold_text(held, letters):
+    held.letters = letters
+    held.cells = None
 
 
 def answer_least(held):
@@ -121,14 +144,60 @@ def answer_least(held):
     return [DONE, cell.cost]
 
 
-def answer_repair(held):
+def answer_by_repair(held, call):
     if whole_cell(held) is None:
         return [NONE_THERE]
     try:
-        letters = repaired(told_repair(cells_of(held)))
+        changes = told_repair(cells_of(held))
     except TooLong:
         return [REPAIR_TOO_LONG]
+    if call == REPAIR:
+        return answer_repair(repaired(changes))
+    if call == CHANGES:
+        return answer_changes(changes)
+    return answer_apply(held, repaired(changes))
+
+
+def answer_repair(letters):
     return [DONE, len(letters)] + letters
+
+
+def answer_changes(changes):
+    told = [change for change in changes if change[0] != KEPT]
+    answer = [DONE, len(told)]
+    for change in told:
+        answer.extend(change)
+    return answer
+
+
+def answer_apply(held, letters):
+    if len(letters) > MOST_LETTERS:
+        return [TOO_MANY]
+    hold_text(held, letters)
+    return [DONE]
+
+
+def answer_by_cell(held, call, three):
+    nonterminal = three[0]
+    i = three[1]
+    j = three[2]
+    if nonterminal < 0 or nonterminal >= held.grammar.nonterminals:
+        return [NO_NONTERMINAL]
+    if i < 0 or j < i or j > len(held.letters):
+        return [OUT_OF_BOUNDS]
+    cell = cells_of(held).at(nonterminal, i, j)
+    if cell is None:
+        return [NONE_THERE]
+    if call == COST:
+        return [DONE, cell.cost]
+    return [DONE, cell.cost, cell.rule, len(cell.ends)] + cell.ends
+
+
+def answer_distance(held, row):
+    refusal = refusal_of_bytes(row, MOST_OTHER_LETTERS)
+    if refusal is not None:
+        return [refusal]
+    return [DONE, distance_between(held.letters, row, held.costs)]
 
 
 def whole_cell(held):

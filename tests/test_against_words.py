@@ -4,11 +4,7 @@ import itertools
 import random
 import unittest
 
-from helper import LEAST, REPAIR, Model, ask, costs, distance, grammar_row, is_read, load, price, text
-from leastrepairs.cells import find_cells
-from leastrepairs.grammar import read_grammar
-from leastrepairs.pieces import PUT_IN, Costs
-from leastrepairs.telling import told_repair
+from helper import CHANGES, LEAST, REPAIR, Model, ask, cost, costs, distance, is_read, load, text, way
 
 SIGNS = "abc"
 
@@ -31,64 +27,83 @@ def made_case(seed):
     return nonterminals, rules, signs, prices
 
 
-def found_cells(nonterminals, rules, signs, prices):
-    grammar = read_grammar(grammar_row(nonterminals, rules))
-    return find_cells(grammar, [ord(sign) for sign in signs], Costs(*prices))
+def program(nonterminals, rules, signs, prices, *asked):
+    return ask(load(nonterminals, rules), costs(*prices), text(signs), *asked)[3:]
 
 
-def program(nonterminals, rules, signs, prices):
-    return ask(load(nonterminals, rules), costs(*prices), text(signs), LEAST, REPAIR)[3:]
+def change_text(signs, changes):
+    """The text that comes of the told changes of a text, all other bytes kept."""
+    rest = list(changes)
+    told = []
+    for place in range(len(signs) + 1):
+        kept = place < len(signs)
+        while rest and rest[0][1] == place:
+            kind, _, byte = rest.pop(0)
+            if kind != 1:
+                told.append(byte)
+            if kind != 2:
+                kept = False
+        if kept:
+            told.append(ord(signs[place]))
+    assert not rest
+    return told
 
 
 class AgainstWords(unittest.TestCase):
-    def test_cells_and_told_repairs(self):
+    def test_least_repair_and_changes(self):
         answered = 0
         for seed in range(3000):
             nonterminals, rules, signs, prices = made_case(seed)
             model = Model(rules, signs, prices)
             with self.subTest(rules=rules, signs=signs, prices=prices):
-                self.assertEqual(program(nonterminals, rules, signs, prices), [model.least(), model.repair()])
+                self.assertEqual(program(nonterminals, rules, signs, prices, LEAST, REPAIR, CHANGES),
+                                 [model.least(), model.repair(), model.changes()])
             answered += model.least() != [1]
         self.assertGreater(answered, 1000)
 
-    def test_every_cell_is_as_told(self):
+    def test_every_cell(self):
         for seed in range(3000, 4000):
             nonterminals, rules, signs, prices = made_case(seed)
-            cells = found_cells(nonterminals, rules, signs, prices)
-            found = {key: (cell.cost, cell.rule, tuple(cell.ends)) for key, cell in cells.found.items()}
+            model = Model(rules, signs, prices)
+            places = range(len(signs) + 1)
+            threes = [(a, i, j) for a in range(nonterminals) for i in places for j in places[i:]]
             with self.subTest(rules=rules, signs=signs, prices=prices):
-                self.assertEqual(found, Model(rules, signs, prices).cells)
+                self.assertEqual(program(nonterminals, rules, signs, prices, *[way(*three) for three in threes]),
+                                 [model.way(*three) for three in threes])
+                self.assertEqual(program(nonterminals, rules, signs, prices, *[cost(*three) for three in threes]),
+                                 [model.cost(*three) for three in threes])
 
 
 class WhatARepairIs(unittest.TestCase):
     def test_it_is_read_and_costs_what_least_tells(self):
         for seed in range(4000, 6000):
             nonterminals, rules, signs, prices = made_case(seed)
-            least, repair = program(nonterminals, rules, signs, prices)
+            least, repair = program(nonterminals, rules, signs, prices, LEAST, REPAIR)
             if repair[0] == 0:
                 mended = "".join(chr(byte) for byte in repair[2:])
                 with self.subTest(rules=rules, signs=signs, prices=prices, mended=mended):
                     self.assertTrue(is_read(nonterminals, rules, mended))
                     self.assertEqual(distance(signs, mended, prices), least[1])
 
-    def test_its_changes_go_from_left_to_right_and_cost_what_least_tells(self):
-        for seed in range(4000, 5000):
+    def test_its_changes_make_it_and_cost_what_least_tells(self):
+        for seed in range(4000, 6000):
             nonterminals, rules, signs, prices = made_case(seed)
-            cells = found_cells(nonterminals, rules, signs, prices)
-            whole = cells.at(0, 0, len(signs))
-            if whole is not None and whole.cost < 64:
-                changes = told_repair(cells)
+            least, repair, flat = program(nonterminals, rules, signs, prices, LEAST, REPAIR, CHANGES)
+            if flat[0] == 0:
+                changes = [tuple(flat[k:k + 3]) for k in range(2, len(flat), 3)]
                 with self.subTest(rules=rules, signs=signs, prices=prices, changes=changes):
-                    self.assertEqual(price(changes, prices), whole.cost)
-                    self.assertEqual([place for kind, place, byte in changes if kind != PUT_IN], list(range(len(signs))))
-                    places = [place for kind, place, byte in changes]
-                    self.assertEqual(places, sorted(places))
+                    self.assertEqual(flat[1], len(changes))
+                    self.assertEqual(change_text(signs, changes), repair[2:])
+                    each = {2: prices[0], 1: prices[1], 3: prices[2]}
+                    self.assertEqual(sum(each[kind] for kind, place, byte in changes), least[1])
+                    touched = [place for kind, place, byte in changes if kind != 2]
+                    self.assertEqual(touched, sorted(set(touched)))
 
     def test_no_short_text_that_is_read_is_nearer(self):
         short = [""] + ["".join(signs) for length in (1, 2, 3) for signs in itertools.product(SIGNS, repeat=length)]
         for seed in range(6000, 6150):
             nonterminals, rules, signs, prices = made_case(seed)
-            least = program(nonterminals, rules, signs, prices)[0]
+            least = program(nonterminals, rules, signs, prices, LEAST)[0]
             read = [other for other in short if is_read(nonterminals, rules, other)]
             with self.subTest(rules=rules, signs=signs, prices=prices):
                 if least == [1]:

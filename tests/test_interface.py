@@ -2,12 +2,16 @@ import inspect
 import sys
 import unittest
 
-from helper import BRACKETS, LEAST, REPAIR, ask, costs, distance, grammar_row, is_read, load, load_row, text, text_row
+from helper import (APPLY, BRACKETS, CHANGES, LEAST, REPAIR, ask, costs, distance, distance_row, grammar_row, is_read,
+                    load, load_row, text, text_row)
 from leastrepairs.mending import answers
 
 ROW = grammar_row(*BRACKETS)
 LINE = [0, 17] + ROW + [2, 2, 40, 97, 3, 4, 1, 1, 2, 2, 4, 1, 0, 0, 0, 2, 1, 256, 0, 1, 5, 3]
 TOLD = [1, 0, 1, 0, 2, 0, 1, 3, 0, 1, 97, 1, 0, 5, 0, 3, 40, 97, 41, 1, -5, 1, -1, 1, -2, 2, 0, 1]
+LINE += [5, 6, 0, 1, 2, 7, 0, 0, 2, 8, 1, 97, 6, 1, 0, 2, 7, 0, 0, 3, 8, 1, 256, 9, 5, 8, 1, 97, 7, 0, 0, 3]
+TOLD += [5, 0, 1, 2, 2, 41, 2, 0, 0, 7, 0, 1, 0, 3, 1, 2, 2, 2, 0, 2, 1, -4, 1, -5, 1, -1, 1, 0, 2, 0, 0, 2, 0, 4]
+TOLD += [7, 0, 0, 0, 3, 1, 2, 3]
 
 
 class Form(unittest.TestCase):
@@ -25,16 +29,27 @@ class Form(unittest.TestCase):
         self.assertEqual(answers([2, 1, 7]), [1, 0])
         self.assertEqual(answers([3]), [1, 1])
         self.assertEqual(answers([4]), [1, 1])
+        self.assertEqual(answers([5]), [1, 1])
+        self.assertEqual(answers([6, 0, 0, 0]), [1, 1])
+        self.assertEqual(answers([7, 0, 0, 0]), [1, 1])
+        self.assertEqual(answers([8, 0]), [2, 0, 0])
+        self.assertEqual(answers([8, 1, 7]), [2, 0, 1])
+        self.assertEqual(answers([9]), [1, 1])
 
     def test_numbers_in_a_row_that_look_like_calls(self):
         self.assertEqual(answers([2, 3, 3, 4, 3, 3]), [1, 0, 1, 1])
         self.assertEqual(answers([0, 4, 3, 3, 3, 3, 3]), [1, -2, 1, 1])
         self.assertEqual(answers([1, 3, 4, 3, 4]), [1, 0, 1, 1])
+        self.assertEqual(answers([6, 9, 9, 9, 9]), [1, -4, 1, 1])
+        self.assertEqual(answers([7, 0, 9, 9, 9]), [1, -5, 1, 1])
+        self.assertEqual(answers([8, 2, 9, 9, 9]), [2, 0, 2, 1, 1])
 
     def test_refused_rows_are_passed_by_whole(self):
         self.assertEqual(answers([2, 13] + [3] * 13 + [3]), [1, -3, 1, 1])
         self.assertEqual(answers([2, 2, -1, 3, 3]), [1, -1, 1, 1])
         self.assertEqual(answers([0, 3, -1, 3, 3, 3]), [1, -1, 1, 1])
+        self.assertEqual(answers([8, 65] + [3] * 65 + [3]), [1, -3, 1, 1])
+        self.assertEqual(answers([8, 2, -1, 3, 3]), [1, -1, 1, 1])
 
     def test_a_list_of_whole_numbers_comes_back(self):
         told = answers(LINE)
@@ -84,8 +99,9 @@ class Long(unittest.TestCase):
             self.assertEqual(got[k], [0, opened // 2 + 1], k)
 
     def test_rows_of_2000_numbers(self):
-        rows = [text_row([1] * 2000), load_row([1] * 2000), text_row([-1] * 2000), load_row([-1] * 2000)]
-        self.assertEqual(ask(*rows), [[-3], [-2], [-1], [-1]])
+        rows = [text_row([1] * 2000), load_row([1] * 2000), text_row([-1] * 2000), load_row([-1] * 2000),
+                distance_row([1] * 2000), distance_row([-1] * 2000)]
+        self.assertEqual(ask(*rows), [[-3], [-2], [-1], [-1], [-3], [-1]])
 
     def test_a_list_of_16000_numbers(self):
         line = (load_row([1] * 1998) * 8)[:14000] + text_row([7] * 1994) + [3, 3, 3, 3]
@@ -102,14 +118,14 @@ class Long(unittest.TestCase):
 
     def test_deep_repairs_are_gone_through_by_loops(self):
         rules = [(a, [a + 1]) for a in range(19)] + [(19, ["a", 0]), (19, ["b"])]
-        line = load(20, rules) + text("aaaaaaaaaaab") + REPAIR
+        line = load(20, rules) + text("aaaaaaaaaaab") + REPAIR + CHANGES + APPLY
         before = sys.getrecursionlimit()
         sys.setrecursionlimit(len(inspect.stack()) + 30)
         try:
             told = answers(line)
         finally:
             sys.setrecursionlimit(before)
-        self.assertEqual(told[4:], [14, 0, 12] + [97] * 11 + [98])
+        self.assertEqual(told[4:], [14, 0, 12] + [97] * 11 + [98] + [2, 0, 0] + [1, 0])
 
 
 if __name__ == "__main__":
